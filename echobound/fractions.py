@@ -3,6 +3,8 @@
 from echobound.errors import NoFraction
 
 GREATEST_POWER = 400
+NOUGHT = (0, 1)
+ONE = (1, 1)
 
 
 def is_whole(thing):

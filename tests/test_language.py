@@ -1,6 +1,7 @@
 """Some rules of the language that the package is written in, as far as a short test can see them."""
 
 import ast
+import builtins
 import pathlib
 import re
 import unittest
@@ -10,6 +11,20 @@ BARRED_WORDS = ("type", "typing", "typing_extensions", "enum", "Enum", "IntEnum"
                 "Generic", "Protocol", "ABC", "ABCMeta", "namedtuple", "NamedTuple", "TypedDict", "TYPE_CHECKING",
                 "abstractmethod")
 BARRED_PARTS = ("dataclass", "overload", "contextmanager")
+BUILTINS = ("len", "range", "enumerate", "zip", "min", "max", "sum", "abs", "sorted", "reversed", "int", "str", "bool",
+            "list", "tuple", "dict", "set", "isinstance", "ord", "repr", "any", "all", "divmod", "super",
+            "ArithmeticError", "ValueError", "KeyError", "IndexError", "LookupError", "ZeroDivisionError", "TypeError",
+            "NotImplemented")
+INTERFACE = {
+    "fractions.py": ("is_whole", "is_fraction", "fraction", "plus", "minus", "times", "divided", "size_of", "two_to",
+                     "under"),
+    "rounding.py": ("rounded",),
+    "forms.py": ("Form",),
+    "matrices.py": ("is_matrix", "shape", "unit", "mirrored", "sum_of", "product", "scaled", "led", "solved", "signs"),
+    "series.py": ("product_of", "response", "answered", "parted"),
+    "ladder.py": ("ladder", "raised"),
+    "stillness.py": ("weighed", "stillness", "is_paper", "energy", "halving", "worth"),
+}
 
 
 def sources():
@@ -59,6 +74,52 @@ class LanguageTest(unittest.TestCase):
         for name, node in nodes_of(ast.BinOp):
             if isinstance(node.op, ast.Pow):
                 self.assertIsInstance(node.right, ast.Constant, (name, node.lineno))
+
+    def test_the_interface_is_defined_where_it_is_listed(self):
+        for name, wanted in INTERFACE.items():
+            tree = ast.parse((PACKAGE / name).read_text(encoding="utf-8"))
+            defined = [node.name for node in tree.body if isinstance(node, (ast.FunctionDef, ast.ClassDef))]
+            self.assertEqual([one for one in wanted if defined.count(one) != 1], [], name)
+
+    def test_names_are_plain_and_no_builtin_s(self):
+        for name, node in nodes_of((ast.Name, ast.arg, ast.FunctionDef)):
+            word = getattr(node, "id", None) or getattr(node, "arg", None) or getattr(node, "name", None)
+            own = not isinstance(node, ast.Name) or isinstance(node.ctx, ast.Store)
+            if own and not (isinstance(node, ast.FunctionDef) and word.startswith("__")):
+                self.assertFalse(word.startswith("_"), (name, node.lineno))
+                self.assertFalse(hasattr(builtins, word), (name, node.lineno, word))
+
+    def test_no_local_name_is_an_import_s(self):
+        for path, text in sources():
+            tree = ast.parse(text)
+            imported = {one.asname or one.name for node in ast.walk(tree) if isinstance(node, ast.ImportFrom)
+                        for one in node.names}
+            stored = {node.id for node in ast.walk(tree)
+                      if isinstance(node, ast.Name) and isinstance(node.ctx, ast.Store)}
+            given = {node.arg for node in ast.walk(tree) if isinstance(node, ast.arg)}
+            self.assertEqual(imported & (stored | given), set(), path.name)
+
+    def test_imports_name_the_file_that_defines(self):
+        for name, node in nodes_of(ast.ImportFrom):
+            tree = ast.parse((PACKAGE / (node.module.split(".")[1] + ".py")).read_text(encoding="utf-8"))
+            defined = {one.name for one in tree.body if isinstance(one, (ast.FunctionDef, ast.ClassDef))}
+            defined |= {one.targets[0].id for one in tree.body if isinstance(one, ast.Assign)}
+            for one in node.names:
+                self.assertIn(one.name, defined, (name, node.lineno))
+
+    def test_builtins_take_lists_and_not_generators(self):
+        self.assertEqual(nodes_of(ast.GeneratorExp), [])
+
+    def test_only_told_builtins_are_read(self):
+        for name, node in nodes_of(ast.Name):
+            if hasattr(builtins, node.id):
+                self.assertIn(node.id, BUILTINS, (name, node.lineno))
+
+    def test_is_stands_only_beside_none_and_truths(self):
+        for name, node in nodes_of(ast.Compare):
+            for sign, right in zip(node.ops, node.comparators):
+                if isinstance(sign, (ast.Is, ast.IsNot)):
+                    self.assertIn(getattr(right, "value", right), (None, True, False), (name, node.lineno))
 
 
 if __name__ == "__main__":
