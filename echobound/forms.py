@@ -70,10 +70,20 @@ class Form:
             return self.least() if number < 0 else self.greatest()
         return (number - self.least()) % (1 << self.width) + self.least()
 
-    def kept(self, value):
-        number = rounded(divided(value, self.step()), self.manner)
+    def ended(self, number):
+        """The word as which a whole number of steps is kept, and how far beyond it the number lies."""
         word = self.word_for(number)
         return (word, number - word)
+
+    def kept(self, value):
+        return self.ended(rounded(divided(value, self.step()), self.manner))
+
+    def kept_at(self, number, point):
+        """Like kept, of the value that a number at a point stands for."""
+        if point <= self.point:
+            return self.ended(number << (self.point - point))
+        # Not in lowest terms, as rounding asks only for a bottom above 0.
+        return self.ended(rounded((number, 1 << (point - self.point)), self.manner))
 
     def bits(self, word):
         if self.width is None or not self.has(word):

@@ -1,4 +1,4 @@
-"""Lists of fractions reckoned with as whole numbers over one bottom: exact, and far faster than one by one."""
+"""Fractions reckoned with as whole numbers: over one bottom, or at a point. Exact, and far faster than one by one."""
 
 from echobound.fractions import NOUGHT, ONE, is_fraction, lowest, shared_divisor
 
@@ -120,3 +120,70 @@ def solution(rows):
     if at < len(rows):
         return ("none", cancelled(whole, at, len(rows)))
     return ("one", made_up(whole, at))
+
+
+# From here on a number at a point is a tuple (number, point) that stands for number times 2 ** -point, in any terms.
+
+
+def lowest_at(one):
+    """The same at the least point there is; of 0 at the point 0."""
+    number, point = one
+    if number == 0:
+        return (0, 0)
+    noughts = (number & -number).bit_length() - 1
+    return (number >> noughts, point - noughts)
+
+
+def fraction_at(one):
+    """The fraction that a number at a point stands for."""
+    number, point = lowest_at(one)
+    return (number, 1 << point) if point >= 0 else (number << -point, 1)
+
+
+def sum_at(one, other):
+    # A nought's point says nothing, and would only make the numbers longer.
+    if one[0] == 0:
+        return other
+    if other[0] == 0:
+        return one
+    point = max(one[1], other[1])
+    return ((one[0] << (point - one[1])) + (other[0] << (point - other[1])), point)
+
+
+def less_at(one, other):
+    return sum_at(one, (-other[0], other[1]))
+
+
+def product_at(one, other):
+    return (one[0] * other[0], one[1] + other[1])
+
+
+def size_at(one):
+    return (abs(one[0]), one[1])
+
+
+def total_at(ones):
+    total = (0, 0)
+    for one in ones:
+        total = sum_at(total, one)
+    return total
+
+
+def greatest_size_at(ones):
+    """The greatest size among numbers at points, 0 where there are none."""
+    greatest = (0, 0)
+    for one in ones:
+        if less_at(size_at(one), greatest)[0] > 0:
+            greatest = size_at(one)
+    return greatest
+
+
+def pointed(pair):
+    """A fraction whose bottom is a power of two, as a number at a point."""
+    return (pair[0], pair[1].bit_length() - 1)
+
+
+def numbers_at(pairs):
+    """Whole numbers for fractions whose bottoms are powers of two, and the one point that they all stand at."""
+    numbers, bottom = cleared(pairs)
+    return (numbers, bottom.bit_length() - 1)

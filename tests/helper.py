@@ -1,4 +1,4 @@
-"""What several test files share: things of other kinds, and fractions and matrices by another way."""
+"""What several test files share: things of other kinds, and fractions, matrices and nets by another way."""
 
 import copy
 import inspect
@@ -6,6 +6,8 @@ import random
 from fractions import Fraction
 
 from echobound.errors import EchoError
+from echobound.forms import Form
+from echobound.nets import Net
 
 MANNERS = ("down", "up", "in", "out", "half", "even", "far")
 LONG = 10 ** 399 + 7
@@ -239,3 +241,193 @@ def check_interface(test, module, wanted):
         made = getattr(module, name)
         test.assertEqual(str(inspect.signature(made)), arguments)
         test.assertEqual(made.__module__, module.__name__)
+
+
+def plain_rounded(value, manner):
+    """A number rounded by a manner, as the document tells it."""
+    low = value.numerator // value.denominator
+    if value == low:
+        return low
+    high = low + 1
+    toward, away = (low, high) if value > 0 else (high, low)
+    if manner in ("down", "up", "in", "out"):
+        return {"down": low, "up": high, "in": toward, "out": away}[manner]
+    if value - low != high - value:
+        return low if value - low < high - value else high
+    return {"half": high, "even": low if low % 2 == 0 else high, "far": away}[manner]
+
+
+def plain_kept(form, value):
+    """The word as which a form keeps a value, and how far it went over."""
+    n = plain_rounded(value * Fraction(2) ** form.point, form.manner)
+    if form.width is None:
+        return (n, 0)
+    least, greatest = -2 ** (form.width - 1), 2 ** (form.width - 1) - 1
+    if form.ends == "stop":
+        word = max(least, min(greatest, n))
+    else:
+        word = (n - least) % 2 ** form.width + least
+    return (word, n - word)
+
+
+def plain_points(net):
+    """The points of all rows, one behind the other."""
+    forms, points = net.forms(), []
+    for row in net.rows():
+        if row[0] == "in":
+            points.append(forms[net.enters()].point)
+        elif row[0] == "old":
+            points.append(forms[net.holds()[row[1]][0]].point)
+        elif row[0] == "times":
+            points.append(points[row[3]] + row[2])
+        elif row[0] == "move":
+            points.append(points[row[2]] - row[1])
+        elif row[0] == "keep":
+            points.append(forms[row[1]].point)
+        else:
+            points.append(max(points[row[1]], points[row[2]]))
+    return points
+
+
+def plain_values(net, word, held, keep):
+    """The values of all rows where the word and the holds have these values; keep tells a keep row's value."""
+    values = []
+    for at, row in enumerate(net.rows()):
+        if row[0] == "in":
+            values.append(word)
+        elif row[0] == "old":
+            values.append(held[row[1]])
+        elif row[0] == "times":
+            values.append(row[1] * values[row[3]] / Fraction(2) ** row[2])
+        elif row[0] == "move":
+            values.append(values[row[2]] * Fraction(2) ** row[1])
+        elif row[0] == "keep":
+            values.append(keep(at, net.forms()[row[1]], values[row[2]]))
+        else:
+            other = values[row[2]]
+            values.append(values[row[1]] + (other if row[0] == "plus" else -other))
+    return values
+
+
+def state_values(net, state):
+    return [number / Fraction(2) ** net.forms()[hold[0]].point for number, hold in zip(state, net.holds())]
+
+
+def numbers_from_values(net, values):
+    return [value * Fraction(2) ** point for value, point in zip(values, plain_points(net))]
+
+
+def plain_turn(net, state, word):
+    """The numbers of all rows, the next state, and the keep rows that went over."""
+    went = []
+
+    def keep(at, form, value):
+        kept, beyond = plain_kept(form, value)
+        if beyond:
+            went.append(at)
+        return kept / Fraction(2) ** form.point
+
+    heard = word / Fraction(2) ** net.forms()[net.enters()].point
+    numbers = numbers_from_values(net, plain_values(net, heard, state_values(net, state), keep))
+    assert all(number.denominator == 1 for number in numbers)
+    numbers = [int(number) for number in numbers]
+    return (numbers, tuple(numbers[hold[2]] for hold in net.holds()), went)
+
+
+def plain_run(net, words, state=None):
+    """For each word the numbers of all rows and the keep rows that went over."""
+    state = net.start() if state is None else state
+    told = []
+    for word in words:
+        numbers, state, went = plain_turn(net, state, word)
+        told.append((numbers, went))
+    return told
+
+
+def twin_numbers(net, state, word, more=None):
+    """The exact twin's numbers of all rows; more is a pair of a keep row and how much more its number is."""
+    def keep(at, form, value):
+        if more is not None and at == more[0]:
+            return value + more[1] / Fraction(2) ** form.point
+        return value
+
+    heard = word / Fraction(2) ** net.forms()[net.enters()].point
+    return numbers_from_values(net, plain_values(net, heard, state_values(net, state), keep))
+
+
+def twin_run(net, words, state):
+    """The exact twin's out values, from any numbers in the holds, with any numbers as words."""
+    point = plain_points(net)[net.out()]
+    told = []
+    for word in words:
+        numbers = twin_numbers(net, state, Fraction(word))
+        told.append(numbers[net.out()] / Fraction(2) ** point)
+        state = [numbers[hold[2]] for hold in net.holds()]
+    return told
+
+
+def some_form(dice, widths=(None, 2, 3, 4, 8, 16, 64), points=(-3, 0, 1, 2, 5)):
+    return Form(dice.choice(widths), dice.choice(points), dice.choice(MANNERS), dice.choice(("wrap", "stop")))
+
+
+def some_word(dice, form, size=100):
+    """A word of the form, of no greater size, where the form has one."""
+    if form.width is None:
+        return dice.randint(-size, size)
+    return dice.randint(max(form.least(), -size), min(form.greatest(), size))
+
+
+def some_row(dice, forms, holds, many, factors, shift):
+    """A row that may stand behind so many others."""
+    kind = dice.choice(("in", "old", "times", "times", "plus", "plus", "less", "less", "move", "keep", "keep"))
+    at = dice.randrange(many)
+    if kind == "in" or (kind == "old" and not holds):
+        return ("in",)
+    return {"old": ("old", dice.randrange(max(holds, 1))),
+            "times": ("times", dice.randint(-factors, factors), dice.randint(0, shift), at),
+            "plus": ("plus", at, dice.randrange(many)), "less": ("less", at, dice.randrange(many)),
+            "move": ("move", dice.randint(-2, 2), at), "keep": ("keep", dice.randrange(forms), at)}[kind]
+
+
+def some_net(dice, forms, holds=1, many=8, factors=5, shift=3):
+    """A net by these forms, with so many holds and many more rows, whose out row is any of the last ones."""
+    rows = [("in",)] + [("old", hold) for hold in range(holds)]
+    for _ in range(many):
+        rows.append(some_row(dice, len(forms), holds, len(rows), factors, shift))
+    links = []
+    for hold in range(holds):
+        form = dice.randrange(len(forms))
+        links.append((form, some_word(dice, forms[form]), len(rows)))
+        rows.append(("keep", form, dice.randrange(holds + 1, holds + 1 + many)))
+    return Net(forms, dice.randrange(len(forms)), rows, links, dice.randrange(holds + 1, len(rows)))
+
+
+def echo_net():
+    """The document's example: the word and three quarters of what was told last, rounded."""
+    return Net([Form(8)], 0, [("in",), ("old", 0), ("times", 3, 2, 1), ("plus", 0, 2), ("keep", 0, 3)], [(0, 0, 4)], 4)
+
+
+def no_numbers(many):
+    """Things that are no number of one of so many."""
+    return [-1, many, many + 1, 10 ** 30, -many, "0", "", *other_kinds()]
+
+
+def no_words(form):
+    """Things that are no words of a form."""
+    things = ["", "1", "0101", *other_kinds()]
+    if form.width is not None:
+        end = 2 ** (form.width - 1)
+        things += [end, -end - 1, end + 1, 2 * end, 10 ** 399, -10 ** 399]
+    return things
+
+
+def no_states(net):
+    """Things that are no state of a net."""
+    start, forms = net.start(), net.forms()
+    things = [start + (0,), list(start), "", "0", 0, None, True, {}, {0}, b"", Stranger(), (start,), [start],
+              (Stranger(),) * (len(start) + 1)]
+    things += [()] if start else [(0,), (None,)]
+    for at, hold in enumerate(net.holds()):
+        things += [start[:at] + start[at + 1:]]
+        things += [start[:at] + (thing,) + start[at + 1:] for thing in no_words(forms[hold[0]])]
+    return things

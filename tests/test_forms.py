@@ -9,7 +9,7 @@ from echobound.errors import BadForm, NoText, Unfit
 from echobound.forms import Form
 from echobound.fractions import is_fraction
 from echobound.rounding import rounded
-from tests.helper import MANNERS, as_number, as_pair, other_kinds, refusal
+from tests.helper import MANNERS, as_number, as_pair, no_words, other_kinds, refusal
 
 WIDTHS = (None, 2, 3, 8, 63, 64)
 POINTS = (-64, -2, 0, 1, 4, 64)
@@ -33,15 +33,6 @@ def words_near_the_ends(form):
         return [0, 1, -1, 5, -6, 10 ** 399, -10 ** 399]
     least, greatest = -2 ** (form.width - 1), 2 ** (form.width - 1) - 1
     return sorted({least, least + 1, -1, 0, 1, greatest - 1, greatest})
-
-
-def others_than_words(form):
-    """Things that are no words of the form."""
-    things = ["", "1", "0101", *other_kinds()]
-    if form.width is not None:
-        end = 2 ** (form.width - 1)
-        things += [end, -end - 1, end + 1, 2 * end, 10 ** 399, -10 ** 399]
-    return things
 
 
 class PartsTest(unittest.TestCase):
@@ -125,7 +116,7 @@ class WordsTest(unittest.TestCase):
         for form in all_forms():
             for word in words_near_the_ends(form):
                 self.assertIs(form.has(word), True, (form, word))
-            for thing in others_than_words(form):
+            for thing in no_words(form):
                 self.assertIs(form.has(thing), False, (form, thing))
         self.assertIs(Form(4).has(thing=8), False)
         self.assertIs(Form(4).has(thing=-8), True)
@@ -161,7 +152,7 @@ class WordsTest(unittest.TestCase):
 
     def test_value_of_no_word(self):
         for form in (Form(2), Form(4, 3, "in", "stop"), Form(64, -64), Form(), Form(None, 9, "up", "stop")):
-            for thing in others_than_words(form):
+            for thing in no_words(form):
                 self.assertEqual(refusal(self, Unfit, form.value, thing).at, 0)
                 self.assertEqual(refusal(self, Unfit, form.value, word=thing).at, 0)
 
@@ -285,9 +276,9 @@ class BitsTest(unittest.TestCase):
 
     def test_bits_of_no_word(self):
         for form in (Form(2), Form(4, 3, "in", "stop"), Form(64)):
-            for thing in others_than_words(form):
+            for thing in no_words(form):
                 self.assertEqual(refusal(self, Unfit, form.bits, thing).at, 0)
-        for thing in (0, 1, -1, 5, 10 ** 99, *others_than_words(Form())):
+        for thing in (0, 1, -1, 5, 10 ** 99, *no_words(Form())):
             self.assertEqual(refusal(self, Unfit, Form().bits, thing).at, 0)
             self.assertEqual(refusal(self, Unfit, Form(ends="stop").bits, word=thing).at, 0)
 
@@ -350,7 +341,7 @@ class AddedTest(unittest.TestCase):
 
     def test_the_first_that_is_no_word(self):
         for form in (Form(4), Form(4, 1, "down", "stop"), Form(), Form(None, 2, "far", "stop")):
-            for thing in others_than_words(form):
+            for thing in no_words(form):
                 for at in range(4):
                     words = [7, -8, 1, 5]
                     words[at] = thing

@@ -24,6 +24,10 @@ INTERFACE = {
     "series.py": ("product_of", "response", "answered", "parted"),
     "ladder.py": ("ladder", "raised"),
     "stillness.py": ("weighed", "stillness", "is_paper", "energy", "halving", "worth"),
+    "nets.py": ("Net",),
+    "machines.py": ("turned", "overs", "run", "Machine"),
+    "twins.py": ("exact_run", "slack_of", "drift", "errors_of", "matrices_of", "transfer", "gain"),
+    "builds.py": ("direct", "transposed", "rungs", "chain", "beside", "freed"),
 }
 
 
@@ -98,6 +102,20 @@ class LanguageTest(unittest.TestCase):
                       if isinstance(node, ast.Name) and isinstance(node.ctx, ast.Store)}
             given = {node.arg for node in ast.walk(tree) if isinstance(node, ast.arg)}
             self.assertEqual(imported & (stored | given), set(), path.name)
+
+    def test_no_name_is_a_method_and_an_attribute(self):
+        methods = {one.name for _, node in nodes_of(ast.ClassDef) for one in node.body
+                   if isinstance(one, ast.FunctionDef)}
+        stored = {node.attr for _, node in nodes_of(ast.Attribute) if isinstance(node.ctx, ast.Store)}
+        self.assertEqual(methods & stored, set())
+
+    def test_no_two_files_import_from_each_other(self):
+        reached = {path.stem: {node.module.split(".")[1] for node in ast.walk(ast.parse(text))
+                               if isinstance(node, ast.ImportFrom)} for path, text in sources()}
+        for _ in reached:
+            reached = {one: others | {far for other in others for far in reached[other]}
+                       for one, others in reached.items()}
+        self.assertEqual([one for one, others in reached.items() if one in others], [])
 
     def test_imports_name_the_file_that_defines(self):
         for name, node in nodes_of(ast.ImportFrom):
