@@ -2,7 +2,7 @@
 
 from echobound.errors import BadState, NoTurn, Unfit
 from echobound.fractions import is_whole
-from echobound.nets import enter_form
+from echobound.nets import enter_form, swept
 
 
 def is_state(net, thing):
@@ -47,27 +47,15 @@ def sum_number(row, numbers, points):
     return left + right if word == "plus" else left - right
 
 
-def numbers_of(net, state, word):
-    """The numbers of all rows at a turn."""
-    forms = net.forms()
-    points = net.points()
-    numbers = []
-    for row in net.rows():
-        kind = row[0]
-        if kind == "in":
-            number = word
-        elif kind == "old":
-            number = state[row[1]]
-        elif kind == "times":
-            number = row[1] * numbers[row[3]]
-        elif kind == "move":
-            number = numbers[row[2]]
-        elif kind == "keep":
-            number = forms[row[1]].kept_at(numbers[row[2]], points[row[2]])[0]
-        else:
-            number = sum_number(row, numbers, points)
-        numbers.append(number)
-    return numbers
+def number_of_row(row, numbers, forms, points):
+    kind = row[0]
+    if kind == "times":
+        return row[1] * numbers[row[3]]
+    if kind == "move":
+        return numbers[row[2]]
+    if kind == "keep":
+        return forms[row[1]].kept_at(numbers[row[2]], points[row[2]])[0]
+    return sum_number(row, numbers, points)
 
 
 def state_behind(net, numbers):
@@ -77,7 +65,7 @@ def state_behind(net, numbers):
 
 def turn_of(net, state, word):
     """A turn from what is known to be a state, with what is known to be a word."""
-    numbers = numbers_of(net, state, word)
+    numbers = swept(net, word, state, number_of_row)
     return (numbers, state_behind(net, numbers))
 
 

@@ -210,6 +210,25 @@ def is_keep_number(net, thing):
     return is_row_number(net, thing) and net.rows()[thing][0] == "keep"
 
 
+def swept(net, heard, held, rule):
+    """What all rows have, one behind the other.
+
+    A row ("in",) has what is heard, a row ("old", h) what is held at h, each other one what the rule tells of it,
+    of what the rows ahead have, and of the net's forms and points.
+    """
+    forms = net.forms()
+    points = net.points()
+    done = []
+    for row in net.rows():
+        if row[0] == "in":
+            done.append(heard)
+        elif row[0] == "old":
+            done.append(held[row[1]])
+        else:
+            done.append(rule(row, done, forms, points))
+    return done
+
+
 def renumbered(row, forms, rows, holds):
     """The row with the numbers that these lists have, at their places, for its forms, rows and holds."""
     word = row[0]

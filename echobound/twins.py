@@ -4,7 +4,7 @@ from echobound.errors import NoChoice, NoSeries
 from echobound.fractions import NOUGHT, is_whole
 from echobound.machines import check_run, first_state
 from echobound.matrices import turned_over
-from echobound.nets import enter_form, is_keep_number
+from echobound.nets import enter_form, is_keep_number, swept
 from echobound.reckoning import (cleared_rows, dot, fraction_at, greatest_size_at, less_at, lowest_at, numbers_at,
                                  pointed, product_at, size_at, sum_at, total_at)
 from echobound.stillness import halving, multiplied
@@ -12,13 +12,9 @@ from echobound.stillness import halving, multiplied
 MOST_GAIN = 60
 
 
-def value_of_row(row, values, heard, held):
-    """The twin's value of a row, a number at a point, from those of the rows ahead, of the word and of the holds."""
+def value_of_row(row, values, forms, points):
+    """The twin's value of a row, a number at a point: a keep row has just what it keeps."""
     kind = row[0]
-    if kind == "in":
-        return heard
-    if kind == "old":
-        return held[row[1]]
     if kind == "times":
         return product_at((row[1], row[2]), values[row[3]])
     if kind == "move":
@@ -31,11 +27,8 @@ def value_of_row(row, values, heard, held):
 
 
 def twin_values(net, heard, held):
-    """The twin's values of all rows at a turn."""
-    values = []
-    for row in net.rows():
-        values.append(value_of_row(row, values, heard, held))
-    return values
+    """The twin's values of all rows at a turn, for those of the word and of the holds."""
+    return swept(net, heard, held, value_of_row)
 
 
 def hold_points(net):
@@ -89,16 +82,12 @@ def matrices_of(net):
     return (matrix, column, row, number_in(net, by_word, net.out()))
 
 
-def values_off(net, row):
-    """By how much the values of all rows are more where the number of a keep row is one more."""
-    held = [(0, 0)] * len(net.holds())
-    values = []
-    for at, one in enumerate(net.rows()):
-        if at == row:
-            values.append((1, net.points()[row]))
-        else:
-            values.append(value_of_row(one, values, (0, 0), held))
-    return values
+def values_off(net, off):
+    """By how much the values of all rows are more where the number of the keep row off is one more."""
+    def more_of_row(row, values, forms, points):
+        return (1, points[off]) if len(values) == off else value_of_row(row, values, forms, points)
+
+    return swept(net, (0, 0), [(0, 0)] * len(net.holds()), more_of_row)
 
 
 def error_of(net, row):

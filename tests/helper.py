@@ -380,7 +380,8 @@ def some_word(dice, form, size=100):
 def some_row(dice, forms, holds, many, factors, shift):
     """A row that may stand behind so many others."""
     kind = dice.choice(("in", "old", "times", "times", "plus", "plus", "less", "less", "move", "keep", "keep"))
-    at = dice.randrange(many)
+    # Rather a late row than an early one, so that much of a net hangs together.
+    at = max(dice.randrange(many), dice.randrange(many))
     if kind == "in" or (kind == "old" and not holds):
         return ("in",)
     return {"old": ("old", dice.randrange(max(holds, 1))),
@@ -398,8 +399,23 @@ def some_net(dice, forms, holds=1, many=8, factors=5, shift=3):
     for hold in range(holds):
         form = dice.randrange(len(forms))
         links.append((form, some_word(dice, forms[form]), len(rows)))
-        rows.append(("keep", form, dice.randrange(holds + 1, holds + 1 + many)))
+        rows.append(("keep", form, holds + max(dice.randint(1, many), dice.randint(1, many))))
     return Net(forms, dice.randrange(len(forms)), rows, links, dice.randrange(holds + 1, len(rows)))
+
+
+def some_nets(seed, many, holds=(0, 1, 2, 6), widths=(None, 2, 3, 4, 8, 16, 64), points=(-3, 0, 1, 2, 5), rows=14):
+    """So many nets by chance, with up to four forms and up to so many rows beside in, old and the holds' rows."""
+    dice = chance(seed)
+    told = []
+    for _ in range(many):
+        forms = [some_form(dice, widths, points) for _ in range(dice.randint(1, 4))]
+        told.append(some_net(dice, forms, dice.choice(holds), dice.randint(1, rows)))
+    return told
+
+
+def enter_of(net):
+    """The form whose words come in."""
+    return net.forms()[net.enters()]
 
 
 def echo_net():

@@ -100,7 +100,7 @@ class Built(unittest.TestCase):
         refused_at(self, NoSeries, build, given, at, things)
 
     def check_refused(self, build, given, lists):
-        """Each thing that a build takes refused where it is none; lists are pairs of a place and the greatest length."""
+        """Each thing that a build takes, refused where it is none; lists have their places, least and most lengths."""
         for at, least, most in lists:
             things = [*other_kinds(), "1", 1, (1,) * most, [1] * (most + 1), [1] * 40, [10 ** 18], [-10 ** 18],
                       [1] * (most - 1) + [10 ** 18], [1] * (most - 1) + [True], [False] * most, ["1"], [None],
@@ -112,7 +112,8 @@ class Built(unittest.TestCase):
         point = len(given) - 3
         self.refused(build, given, point, no_numbers(65))
         for at in (point + 1, point + 2):
-            self.refused(build, given, at, [*other_kinds(), 8, "8.0 half wrap", (8, 0, "half", "wrap"), [Form(8)], Form])
+            self.refused(build, given, at, [*other_kinds(), 8, "8.0 half wrap", (8, 0, "half", "wrap"), [Form(8)],
+                                            Form])
 
 
 class DirectTest(Built):
@@ -400,6 +401,11 @@ class FreedTest(unittest.TestCase):
                 refusal(self, NoChoice, freed, net, [thing])
                 refusal(self, NoChoice, freed, net=net, rows=[*net.keeps(), thing])
                 refusal(self, NoChoice, freed, net, [thing, *net.keeps()])
+
+    def test_no_list(self):
+        for thing in [*other_kinds(), 4, "", "4", (4,), {4: 4}, {4}]:
+            if thing != [] or not isinstance(thing, list):
+                refusal(self, NoChoice, freed, echo_net(), thing)
 
     def test_too_many_forms(self):
         rows = [("in",)] + [("keep", at, 0) for at in range(7)]

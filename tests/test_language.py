@@ -28,6 +28,10 @@ INTERFACE = {
     "machines.py": ("turned", "overs", "run", "Machine"),
     "twins.py": ("exact_run", "slack_of", "drift", "errors_of", "matrices_of", "transfer", "gain"),
     "builds.py": ("direct", "transposed", "rungs", "chain", "beside", "freed"),
+    "spelling.py": ("spelled", "without_times"),
+    "reach.py": ("Reach", "is_closed"),
+    "boxes.py": ("box", "is_box", "may_over"),
+    "rings.py": ("Rings",),
 }
 
 

@@ -11,8 +11,9 @@ from echobound.errors import BadState, NoTurn, Unfit
 from echobound.forms import Form
 from echobound.machines import Machine, overs, run, turned
 from echobound.nets import Net
-from tests.helper import (MANNERS, Stranger, asked, chance, check_interface, echo_net, no_states, no_words, other_kinds,
-                          plain_kept, plain_run, plain_turn, refusal, some_form, some_net, some_word)
+from tests.helper import (MANNERS, Stranger, asked, chance, check_interface, echo_net, enter_of, no_states,
+                          no_words, other_kinds, plain_kept, plain_run, plain_turn, refusal, some_form, some_net,
+                          some_nets, some_word)
 
 
 def mixed_net():
@@ -21,19 +22,6 @@ def mixed_net():
     rows = [("in",), ("old", 0), ("old", 1), ("old", 2), ("times", -5, 3, 1), ("plus", 0, 4), ("less", 2, 5),
             ("move", 1, 6), ("keep", 0, 7), ("keep", 1, 5), ("times", 3, 1, 3), ("plus", 10, 9), ("keep", 2, 11)]
     return Net(forms, 0, rows, [(0, 3, 8), (1, -16, 9), (2, 40, 12)], 11)
-
-
-def some_nets(seed, many, holds=(0, 1, 2, 6)):
-    dice = chance(seed)
-    told = []
-    for _ in range(many):
-        forms = [some_form(dice) for _ in range(dice.randint(1, 4))]
-        told.append(some_net(dice, forms, dice.choice(holds), dice.randint(1, 14)))
-    return told
-
-
-def enter_of(net):
-    return net.forms()[net.enters()]
 
 
 def some_words(dice, net, many):

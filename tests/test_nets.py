@@ -35,6 +35,7 @@ def put(things, at, thing):
 # Rows that cannot stand behind in, old 0, old 1, times and plus, at place 5, with three forms and two holds.
 NO_ROWS = [*other_kinds(), "in", "keep", 7, ["in"], ["plus", 0, 1], (("in",),), ("in", 0),
            ("In",), ("in ",), ("out",), ("form",), ("hold", 0), ("",), (Stranger(),), (Stranger(), 0, 1), (b"in",),
+           ([],), ({},), (["in"],), ([], 0, 1), ({"in"},),
            ("old",), ("old", 2), ("old", -1), ("old", "0"), ("old", True), ("old", None), ("old", 0, 0),
            ("old", Stranger()), ("old", [0]),
            ("times",), ("times", 1, 0), ("times", 1, 0, 0, 0), ("times", 2 ** 63, 0, 0), ("times", -2 ** 63, 0, 0),
@@ -51,8 +52,9 @@ NO_ROWS = [*other_kinds(), "in", "keep", 7, ["in"], ["plus", 0, 1], (("in",),), 
            ("keep", 0), ("keep", 0, 0, 0), ("keep", 3, 0), ("keep", -1, 0), ("keep", True, 0), ("keep", 0, 5),
            ("keep", 0, 6), ("keep", 0, -1), ("keep", 0, True), ("keep", "0", 0), ("keep", None, 0),
            ("keep", FORMS[0], 0), ("keep", Form(8, 2), 0)]
-NO_HOLDS = [*[thing for thing in other_kinds() if repr(thing) != "(1, 2, 3)"], 0, "a", (0, 0), (0, 0, 7, 0), [0, 0, 7], (3, 0, 7), (-1, 0, 7),
-            (True, 0, 7), (None, 0, 7), ("0", 0, 7), (Form(8, 2), 0, 7), (Stranger(), 0, 7),
+NO_HOLDS = [*[thing for thing in other_kinds() if repr(thing) != "(1, 2, 3)"], 0, "a", (0, 0), (0, 0, 7, 0),
+            [0, 0, 7], (3, 0, 7), (-1, 0, 7), (True, 0, 7), (None, 0, 7), ("0", 0, 7), (Form(8, 2), 0, 7),
+            (Stranger(), 0, 7),
             *[(0, thing, 7) for thing in no_words(FORMS[0])], *[(1, thing, 8) for thing in no_words(FORMS[1])],
             (2, 8, 9), (2, -9, 9)]
 NO_LINKS = [(0, 5, 0), (0, 5, 6), (0, 5, 8), (0, 5, 9), (1, 5, 7), (2, 5, 7), (0, 5, 10), (0, 5, -1), (0, 5, -3),
@@ -157,8 +159,9 @@ class AlikeTest(unittest.TestCase):
         self.assertIs(echo_net() == echo_net(), True)
 
     def test_one_part_differs(self):
-        others = {"forms": [put(FORMS, 0, Form(9, 2)), put(FORMS, 0, Form(8, 3)), put(FORMS, 1, Form(16, 0, "down", "stop")),
-                            put(FORMS, 2, Form(4, 5, "up")), [*FORMS, Form()]],
+        others = {"forms": [put(FORMS, 0, Form(9, 2)), put(FORMS, 0, Form(8, 3)),
+                            put(FORMS, 1, Form(16, 0, "down", "stop")), put(FORMS, 2, Form(4, 5, "up")),
+                            [*FORMS, Form()]],
                   "enters": [0, 1],
                   "rows": [put(ROWS, 3, ("times", 3, 1, 1)), put(ROWS, 3, ("times", -3, 2, 1)),
                            put(ROWS, 4, ("plus", 3, 0)), put(ROWS, 4, ("less", 0, 3)), [*ROWS, ("in",)],
@@ -186,7 +189,8 @@ class NoNetTest(unittest.TestCase):
             self.assertEqual((error.part, error.at), (part, at), other)
 
     def test_lists_that_are_none(self):
-        for part, least, most, thing in (("forms", 1, 12, Form(8)), ("rows", 1, 60, ("in",)), ("holds", 0, 6, HOLDS[0])):
+        for part, least, most, thing in (("forms", 1, 12, Form(8)), ("rows", 1, 60, ("in",)),
+                                         ("holds", 0, 6, HOLDS[0])):
             for wrong in NO_LISTS:
                 self.refused(part, None, **{part: wrong})
             self.refused(part, None, **{part: tuple(parts()[part])})

@@ -13,15 +13,11 @@ from echobound.nets import Net
 from echobound.series import answered, response
 from echobound.stillness import halving
 from echobound.twins import drift, errors_of, exact_run, gain, matrices_of, slack_of, transfer
-from tests.helper import (MANNERS, as_number, as_numbers, as_pair, as_pairs, as_rows, asked, chance, dotted, echo_net,
-                          flipped, led_by, multiplied, other_kinds, plain_points, refusal, some_form, some_net,
-                          some_word, twin_run, unit_rows)
+from tests.helper import (MANNERS, as_number, as_numbers, as_pair, as_pairs, as_rows, asked, chance, echo_net,
+                          enter_of, flipped, led_by, multiplied, other_kinds, plain_points, refusal, some_form,
+                          some_net, some_word, twin_run, unit_rows)
 
 NO_MANY = [0, -1, 61, 62, 10 ** 30, -60, "1", "", *other_kinds()]
-
-
-def enter_of(net):
-    return net.forms()[net.enters()]
 
 
 def scale_of(net):
@@ -234,8 +230,8 @@ class GainTest(unittest.TestCase):
 
     def test_the_slowest_that_is_told(self):
         """F is 2 ** -1/60 or just below, so that its sixtieth power, and no lesser one, comes to a half."""
-        slow = Net([Form(None, 20)], 0, [("in",), ("old", 0), ("times", 1036532, 20, 1), ("plus", 0, 2), ("keep", 0, 3)],
-                   [(0, 0, 4)], 4)
+        rows = [("in",), ("old", 0), ("times", 1036532, 20, 1), ("plus", 0, 2), ("keep", 0, 3)]
+        slow = Net([Form(None, 20)], 0, rows, [(0, 0, 4)], 4)
         self.assertEqual(halving(matrices_of(slow)[0]), 60)
         self.check(slow, 60)
         self.assertEqual(as_number(drift(slow)), drift_of(slow))

@@ -14,21 +14,8 @@ from echobound.matrices import is_matrix
 from echobound.nets import Net
 from echobound.twins import errors_of, exact_run, matrices_of, slack_of
 from tests.helper import (MANNERS, Stranger, as_number, as_numbers, as_pairs, as_rows, asked, chance, check_interface,
-                          dotted, echo_net, led_by, no_numbers, no_states, no_words, plain_points, refusal, some_form,
-                          some_net, some_numbers, some_word, twin_numbers, twin_run)
-
-
-def some_nets(seed, many, holds=(0, 1, 2, 3, 6)):
-    dice = chance(seed)
-    told = []
-    for _ in range(many):
-        forms = [some_form(dice) for _ in range(dice.randint(1, 4))]
-        told.append(some_net(dice, forms, dice.choice(holds), dice.randint(1, 14)))
-    return told
-
-
-def enter_of(net):
-    return net.forms()[net.enters()]
+                          dotted, echo_net, enter_of, led_by, no_numbers, no_states, no_words, plain_points, refusal,
+                          some_net, some_nets, some_numbers, some_word, twin_numbers, twin_run)
 
 
 class ExactRunTest(unittest.TestCase):
