@@ -3,6 +3,7 @@
 from echobound.errors import BadState, NoTurn, Unfit
 from echobound.fractions import is_whole
 from echobound.nets import enter_form, swept
+from echobound.reckoning import fraction_at
 
 
 def is_state(net, thing):
@@ -67,6 +68,11 @@ def turn_of(net, state, word):
     """A turn from what is known to be a state, with what is known to be a word."""
     numbers = swept(net, word, state, number_of_row)
     return (numbers, state_behind(net, numbers))
+
+
+def out_value(net, numbers):
+    """The out row's value where the rows have these numbers."""
+    return fraction_at((numbers[net.out()], net.points()[net.out()]))
 
 
 def went_over(net, row, numbers):

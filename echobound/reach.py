@@ -56,6 +56,15 @@ def explored(net, words, most):
     return (states, origins, turns)
 
 
+def way_by(origins, at):
+    """The words that lead to the thing of this number, by how each one first came."""
+    way = []
+    while origins[at] is not None:
+        at, word = origins[at]
+        way.append(word)
+    return way[::-1]
+
+
 class Reach:
     """A net, some words, and all states to which rows of these words lead from its start."""
 
@@ -83,25 +92,21 @@ class Reach:
             raise NoState("the list has no such state")
         return self.place_by_state[state]
 
-    def way_to_place(self, at):
-        way = []
-        while self.origin_list[at] is not None:
-            at, word = self.origin_list[at]
-            way.append(word)
-        return way[::-1]
+    def turns_from(self, place):
+        """The turns from the state at this place, one for each word."""
+        many = len(self.word_list)
+        return self.turn_list[place * many:(place + 1) * many]
 
     def way_by_turn(self, at):
         """The way to the state from which this turn goes, and its word."""
         place, word_at = divmod(at, len(self.word_list))
-        return [*self.way_to_place(place), self.word_list[word_at]]
+        return [*way_by(self.origin_list, place), self.word_list[word_at]]
 
     def way_to(self, state):
-        return self.way_to_place(self.place_of(state))
+        return way_by(self.origin_list, self.place_of(state))
 
     def nexts(self, state):
-        many = len(self.word_list)
-        first = self.place_of(state) * many
-        return [after for numbers, after in self.turn_list[first:first + many]]
+        return [after for numbers, after in self.turns_from(self.place_of(state))]
 
     def numbers_in(self, row):
         """The numbers that a row has, turn by turn."""

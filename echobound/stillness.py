@@ -66,6 +66,14 @@ def stillness(matrix):
     return stillness_of(matrix)
 
 
+def still_weights(matrix):
+    """The matrix of the paper of a square matrix that is still; else it is refused with its paper."""
+    paper = stillness_of(matrix)
+    if paper[0] != "still":
+        raise NotStill(paper)
+    return paper[1]
+
+
 def is_symmetric_of(thing, many):
     return is_symmetric(thing) and len(thing) == many
 
@@ -149,9 +157,7 @@ def energy(matrix, column, row, through):
     check_list(row, len(matrix))
     if not is_fraction(through):
         raise NoFraction("what goes through is a fraction")
-    paper = stillness_of(matrix)
-    if paper[0] != "still":
-        raise NotStill(paper)
+    still_weights(matrix)
     # The squares behind each column come to its worth by X, X less F' X F being row' row.
     squares = weighed_of(matrix, [[times(one, other) for other in row] for one in row])[1]
     return plus(times(through, through), worth_of(squares, column))

@@ -32,6 +32,10 @@ INTERFACE = {
     "reach.py": ("Reach", "is_closed"),
     "boxes.py": ("box", "is_box", "may_over"),
     "rings.py": ("Rings",),
+    "falling.py": ("AllRings",),
+    "meets.py": ("meet", "is_meeting"),
+    "classes.py": ("Least",),
+    "taps.py": ("extremes", "guard"),
 }
 
 
