@@ -6,6 +6,8 @@ import pathlib
 import re
 import unittest
 
+from echobound import errors
+
 PACKAGE = pathlib.Path(__file__).resolve().parent.parent / "echobound"
 BARRED_WORDS = ("type", "typing", "typing_extensions", "enum", "Enum", "IntEnum", "StrEnum", "Flag", "IntFlag",
                 "Generic", "Protocol", "ABC", "ABCMeta", "namedtuple", "NamedTuple", "TypedDict", "TYPE_CHECKING",
@@ -36,7 +38,19 @@ INTERFACE = {
     "meets.py": ("meet", "is_meeting"),
     "classes.py": ("Least",),
     "taps.py": ("extremes", "guard"),
+    "choices.py": ("fitted", "nearest_still"),
+    "shifts.py": ("chosen", "best_order"),
+    "texts.py": ("show_fraction", "show_way", "show_form", "show_net", "read_fraction", "read_way", "read_form",
+                 "read_net"),
+    "desk.py": ("Desk",),
 }
+
+BUILTIN_METHODS = ("append clear copy count endswith extend find get index insert isalnum isalpha isdigit islower "
+                   "isspace isupper items join keys ljust lower lstrip partition pop remove replace reverse rfind rjust "
+                   "rpartition rsplit rstrip setdefault split splitlines startswith strip update upper values zfill "
+                   "bit_length removeprefix removesuffix").split()
+BARRED_ATTRIBUTES = ("items keys values pop update append clear extend insert remove reverse setdefault sort args "
+                     "encode decode hex fromhex format mro register elements open input law").split()
 
 
 def sources():
@@ -140,6 +154,26 @@ class LanguageTest(unittest.TestCase):
         for name, node in nodes_of(ast.Name):
             if hasattr(builtins, node.id):
                 self.assertIn(node.id, BUILTINS, (name, node.lineno))
+
+    def test_methods_are_own_or_told_ones(self):
+        own = {one.name for _, node in nodes_of(ast.ClassDef) for one in node.body if isinstance(one, ast.FunctionDef)}
+        for name, node in nodes_of(ast.Call):
+            if isinstance(node.func, ast.Attribute):
+                self.assertIn(node.func.attr, own | set(BUILTIN_METHODS), (name, node.lineno))
+
+    def test_attributes_have_no_barred_names(self):
+        for name, node in nodes_of(ast.Attribute):
+            if isinstance(node.ctx, ast.Store):
+                self.assertNotIn(node.attr, BARRED_ATTRIBUTES, (name, node.lineno))
+
+    def test_texts_have_no_barred_sign(self):
+        for name, node in nodes_of(ast.Constant):
+            if isinstance(node.value, str):
+                self.assertNotIn(chr(37), node.value, (name, node.lineno))
+
+    def test_only_own_errors_are_caught(self):
+        for name, node in nodes_of(ast.ExceptHandler):
+            self.assertIn(node.type.id, vars(errors), (name, node.lineno))
 
     def test_is_stands_only_beside_none_and_truths(self):
         for name, node in nodes_of(ast.Compare):
