@@ -447,3 +447,28 @@ def no_states(net):
         things += [start[:at] + start[at + 1:]]
         things += [start[:at] + (thing,) + start[at + 1:] for thing in no_words(forms[hold[0]])]
     return things
+
+
+def counter(width=None, ends="wrap", first=0, point=0):
+    """A net that adds up its words."""
+    rows = [("in",), ("old", 0), ("plus", 0, 1), ("keep", 0, 2)]
+    return Net([Form(width, point, "half", ends)], 0, rows, [(0, first, 3)], 3)
+
+
+def some_words(dice, net, most=4):
+    """A list of up to so many words of the net, no two alike."""
+    form = enter_of(net)
+    every = list(range(form.least(), form.greatest() + 1))
+    return dice.sample(every, dice.randint(1, min(most, len(every))))
+
+
+def no_word_lists(form):
+    """Things that are no list of one to nine words of a form, no two alike."""
+    told = [None, True, 0, 1, "", "ab", (), (0,), (0, -1), {}, {0}, {0: 0}, b"", Stranger(), [], [0, 0], [0, -1, 0],
+            list(range(10)), list(range(-5, 5)), [[0]], [(0,)], [0] * 9]
+    return told + [[thing] for thing in no_words(form)] + [[-1, 0, thing] for thing in no_words(form)]
+
+
+def plain_value(net, numbers):
+    """The out row's value where the rows have these numbers."""
+    return numbers[net.out()] / Fraction(2) ** plain_points(net)[net.out()]

@@ -14,16 +14,11 @@ from echobound.forms import Form
 from echobound.machines import run
 from echobound.nets import Net
 from echobound.reach import Reach
-from tests.helper import (MANNERS, Stranger, as_pair, asked, chance, check_interface, echo_net, enter_of, no_states,
-                          no_words, other_kinds, plain_points, plain_turn, refusal, some_nets)
+from tests.helper import (MANNERS, Stranger, as_pair, asked, chance, check_interface, counter, echo_net, enter_of,
+                          no_states, no_word_lists, other_kinds, plain_points, plain_turn, plain_value, refusal,
+                          some_nets, some_words)
 
 NO_MOST = [0, -1, 101, 102, 300, 600, 10 ** 30, -60, "60", "", *other_kinds()]
-
-
-def counter(width=None, ends="wrap", first=0):
-    """Adds up its words."""
-    rows = [("in",), ("old", 0), ("plus", 0, 1), ("keep", 0, 2)]
-    return Net([Form(width, 0, "half", ends)], 0, rows, [(0, first, 3)], 3)
 
 
 def parity(width):
@@ -41,10 +36,6 @@ def last_only(many):
             # One more than the greatest word has no room; what it goes over is all that is told.
             ("keep", 1, 2), ("less", 2, 4)]
     return Net(forms, 0, rows, [(1, greatest - many, 3)], 5)
-
-
-def plain_value(net, numbers):
-    return numbers[net.out()] / Fraction(2) ** plain_points(net)[net.out()]
 
 
 def plain_least(net, words):
@@ -87,18 +78,6 @@ def coarse_nets(seed, many):
         sight = Form(2, dice.choice((-2, -1)), dice.choice(MANNERS), dice.choice(("wrap", "stop")))
         told.append(Net([*net.forms(), sight], 0, [*net.rows(), ("keep", 2, net.out())], net.holds(), len(net)))
     return told
-
-
-def some_words(dice, net):
-    form = enter_of(net)
-    every = list(range(form.least(), form.greatest() + 1))
-    return dice.sample(every, dice.randint(1, min(4, len(every))))
-
-
-def no_word_lists(form):
-    told = [None, True, 0, 1, "", "ab", (), (0,), (0, -1), {}, {0}, {0: 0}, b"", Stranger(), [], [0, 0], [0, -1, 0],
-            list(range(10)), list(range(-5, 5)), [[0]], [(0,)], [0] * 9]
-    return told + [[thing] for thing in no_words(form)] + [[-1, 0, thing] for thing in no_words(form)]
 
 
 class LeastTest(unittest.TestCase):

@@ -1,7 +1,6 @@
 """Points 1 to 4 and 61 to 63: a desk, its lines, and what it refuses."""
 
 import inspect
-import itertools
 import unittest
 
 from echobound import desk
@@ -28,9 +27,9 @@ LOUD = Net([Form(8)], 0, [("in",), ("old", 0), ("times", 2, 0, 1), ("plus", 0, 2
 # For each first word what stands behind it: m a machine, n a net, x a new name, k a number, w one word or more, o none
 # or more.
 SHAPES = {"drop": "n", "nets": "", "machines": "", "show": "n", "same": "nn", "machine": "xn", "twin": "xm",
-          "turn": "mw",
-          "back": "mk", "state": "m", "numbers": "m", "went": "m", "run": "no", "ends": "nkw", "over": "nkw",
-          "box": "nkk", "rings": "nk", "lead": "nko", "still": "n", "gain": "nk", "drift": "n", "meet": "nnw"}
+          "turn": "mw", "back": "mk", "state": "m", "numbers": "m", "went": "m", "run": "no", "ends": "nkw",
+          "over": "nkw", "box": "nkk", "rings": "nk", "lead": "nko", "still": "n", "gain": "nk", "drift": "n",
+          "meet": "nnw"}
 NO_NAMES = ["", "A", "Net", "aB", "abcdefghi", "a1", "1", "0", "-1", "a-b", "a_b", "a.b", "a,", "~", "_", "a\nb", "a\n",
             "a\tb"]
 NO_NUMBERS = ["", "a", "+1", "-0", "00", "01", "1.0", "1/2", "--1", "-", "1-", "1,", "0x1", "1e1", "1_0", "~", "1\n",
@@ -222,7 +221,7 @@ class AnswersTest(DeskCase):
         given = show_way(words)
         low, high = min(words), max(words)
         told = {"run x " + given: lambda: show_way(run(net, words)), "run x": lambda: "",
-                f"still x": lambda: stillness(matrices_of(net)[0])[0],
+                "still x": lambda: stillness(matrices_of(net)[0])[0],
                 "drift y": lambda: show_fraction(drift(other)),
                 f"rings x {words[0]}": lambda: "\n".join(", ".join(show_way(state) for state in ring)
                                                          for ring in Rings(net, words[0]).rings()),
@@ -451,7 +450,7 @@ class RefusedTest(DeskCase):
         self.assertEqual([one.say(line) for line in asking], first)
         self.assertEqual([one.say(line) for line in reversed(asking)], first[::-1])
         self.assertEqual(all_told(one), before)
-        for line in itertools.chain(asking):
+        for line in asking:
             self.assertIs(type(one.say(line)), str)
 
 

@@ -19,7 +19,7 @@ from echobound.stillness import is_paper, stillness, worth
 from echobound.twins import matrices_of
 from tests.helper import (MANNERS, Stranger, as_matrix, as_number, as_pairs, as_rows, asked, chance, check_interface,
                           echo_net, enter_of, flipped, less, multiplied, no_numbers, no_states, no_words, other_kinds,
-                          plain_points, plain_turn, refusal, some_nets, some_word, squares_by, twin_numbers, unit_rows)
+                          plain_points, plain_turn, refusal, some_nets, squares_by, twin_numbers, unit_rows)
 
 NO_MOST = [0, -1, 601, 602, 10 ** 30, -300, "300", "", *other_kinds()]
 NO_TURNS = [-1, 5001, 5002, 10 ** 30, -1000, "1000", "", *other_kinds()]

@@ -45,10 +45,10 @@ INTERFACE = {
     "desk.py": ("Desk",),
 }
 
-BUILTIN_METHODS = ("append clear copy count endswith extend find get index insert isalnum isalpha isdigit islower "
-                   "isspace isupper items join keys ljust lower lstrip partition pop remove replace reverse rfind rjust "
-                   "rpartition rsplit rstrip setdefault split splitlines startswith strip update upper values zfill "
-                   "bit_length removeprefix removesuffix").split()
+BUILTIN_METHODS = ("append clear copy count endswith extend find get index insert isalnum isalpha isdigit "
+                   "islower isspace isupper items join keys ljust lower lstrip partition pop remove replace "
+                   "reverse rfind rjust rpartition rsplit rstrip setdefault split splitlines startswith strip update "
+                   "upper values zfill bit_length removeprefix removesuffix").split()
 BARRED_ATTRIBUTES = ("items keys values pop update append clear extend insert remove reverse setdefault sort args "
                      "encode decode hex fromhex format mro register elements open input law").split()
 

@@ -14,20 +14,11 @@ from echobound.meets import is_meeting, meet
 from echobound.nets import Net
 from echobound.reach import Reach
 from echobound.spelling import without_times
-from tests.helper import (MANNERS, Stranger, asked, chance, check_interface, echo_net, enter_of, no_states, no_words,
-                          other_kinds, plain_points, plain_turn, refusal, some_nets)
+from tests.helper import (MANNERS, Stranger, asked, chance, check_interface, counter, echo_net, no_states,
+                          no_word_lists, other_kinds, plain_points, plain_turn, plain_value, refusal, some_nets,
+                          some_words)
 
 NO_MOST = [0, -1, 601, 602, 10 ** 30, -300, "300", "", *other_kinds()]
-
-
-def counter(width=None, ends="wrap", first=0, point=0):
-    """Adds up its words."""
-    rows = [("in",), ("old", 0), ("plus", 0, 1), ("keep", 0, 2)]
-    return Net([Form(width, point, "half", ends)], 0, rows, [(0, first, 3)], 3)
-
-
-def plain_value(net, numbers):
-    return numbers[net.out()] / Fraction(2) ** plain_points(net)[net.out()]
 
 
 def plain_meet(one, other, words):
@@ -88,18 +79,6 @@ def built_pairs(seed, many):
         builds = dice.choices((direct, transposed), k=2)
         told.append(tuple(build(top, bottom, 1, Form(3), form) for build, form in zip(builds, forms)))
     return told
-
-
-def some_words(dice, net):
-    form = enter_of(net)
-    every = list(range(form.least(), form.greatest() + 1))
-    return dice.sample(every, dice.randint(1, min(4, len(every))))
-
-
-def no_word_lists(form):
-    told = [None, True, 0, 1, "", "ab", (), (0,), (0, -1), {}, {0}, {0: 0}, b"", Stranger(), [], [0, 0], [0, -1, 0],
-            list(range(10)), list(range(-5, 5)), [[0]], [(0,)], [0] * 9]
-    return told + [[thing] for thing in no_words(form)] + [[-1, 0, thing] for thing in no_words(form)]
 
 
 class MeetTest(unittest.TestCase):

@@ -10,15 +10,10 @@ from echobound.forms import Form
 from echobound.machines import Machine, turned
 from echobound.nets import Net
 from echobound.reach import Reach, is_closed
-from tests.helper import (Stranger, asked, chance, check_interface, echo_net, enter_of, no_numbers, no_states, no_words,
-                          other_kinds, plain_run, plain_turn, refusal, some_nets, some_word)
+from tests.helper import (Stranger, asked, chance, check_interface, counter, echo_net, enter_of, no_numbers, no_states,
+                          no_word_lists, other_kinds, plain_run, plain_turn, refusal, some_nets, some_word, some_words)
 
 NO_MOST = [0, -1, 601, 602, 10 ** 30, -300, "300", "", *other_kinds()]
-
-
-def counter(width=None, ends="wrap"):
-    """Adds up its words."""
-    return Net([Form(width, 0, "half", ends)], 0, [("in",), ("old", 0), ("plus", 0, 1), ("keep", 0, 2)], [(0, 0, 3)], 3)
 
 
 def small_nets(seed, many):
@@ -28,9 +23,7 @@ def small_nets(seed, many):
 
 def word_lists(dice, net, many=3):
     """Lists of words of the net, no two alike in one."""
-    form = enter_of(net)
-    every = list(range(form.least(), form.greatest() + 1))
-    return [dice.sample(every, dice.randint(1, min(9, len(every)))) for _ in range(many)]
+    return [some_words(dice, net, 9) for _ in range(many)]
 
 
 def plain_reach(net, words):
@@ -46,16 +39,6 @@ def plain_reach(net, words):
                 ways.append(ways[at] + [word])
         at += 1
     return (states, ways, turns)
-
-
-def no_word_lists(net):
-    form = enter_of(net)
-    good = list(range(-1, 1))
-    told = [None, True, 0, 1, "", "ab", (), (0,), (0, -1), {}, {0}, {0: 0}, b"", Stranger(), [], [0, 0], [0, -1, 0],
-            list(range(10)), list(range(-5, 5)), [[0]], [(0,)], [0] * 9]
-    told += [[thing] for thing in no_words(form)]
-    told += [[*good, thing] for thing in no_words(form)]
-    return told
 
 
 class ReachTest(unittest.TestCase):
@@ -226,7 +209,7 @@ class MostTest(unittest.TestCase):
 
     def test_no_words(self):
         for net in (counter(4), echo_net(), Net([Form(8), Form(3)], 1, [("in",)], [], 0)):
-            for thing in no_word_lists(net):
+            for thing in no_word_lists(enter_of(net)):
                 refusal(self, NoWords, Reach, net, thing)
                 refusal(self, NoWords, Reach, words=thing, net=net, most=1)
                 refusal(self, NoWords, Reach, net, thing, 0)

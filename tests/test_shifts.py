@@ -10,7 +10,7 @@ from echobound.errors import NoChoice
 from echobound.series import answered
 from echobound.shifts import best_order, chosen
 from tests.helper import (Stranger, as_number, as_numbers, as_pair, as_pairs, asked, chance, check_interface,
-                          no_fractions, other_kinds, refusal, refused_at)
+                          no_fractions, other_kinds, refused_at)
 
 MILLION = 10 ** 6
 GREATEST = 10 ** 12

@@ -15,7 +15,6 @@ from echobound.falling import AllRings
 from echobound.forms import Form
 from echobound.machines import Machine, run
 from echobound.meets import meet
-from echobound.nets import Net
 from echobound.reach import Reach
 from echobound.rings import Rings
 from echobound.stillness import is_paper, stillness
