@@ -64,7 +64,7 @@ class Least:
                 for at in firsts]
 
     def word_apart(self, one, other, level):
-        """The place of the first word that parts two states with so many words, itself among them."""
+        """The place of the first word by which two states tell other values, or lead to states that the level parts."""
         at = 0
         while (self.value_rows[one][at] == self.value_rows[other][at]
                and level[self.next_rows[one][at]] == level[self.next_rows[other][at]]):
